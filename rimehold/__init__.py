@@ -1,0 +1,1 @@
+"""Rimehold: rooms kept cold for goods of many kinds."""
