@@ -1,6 +1,6 @@
 """What every module asks of the things that are handed in."""
 
-from rimehold.errors import NoHour
+from rimehold.errors import NoHour, NoNumber
 
 
 def is_whole(thing):
@@ -28,3 +28,8 @@ def is_rising(things):
 def need_hour(thing):
     if not is_hour(thing):
         raise NoHour("an hour is a whole number from 0 on")
+
+
+def need_number(thing):
+    if not is_whole(thing):
+        raise NoNumber("a whole number is an int that is no truth")

@@ -4,6 +4,7 @@ from rimehold.checks import is_hour, is_rising, is_tuple, is_within, need_hour
 from rimehold.errors import NoHouse, NoOuts, NoRoom
 
 COLDEST = 3
+MOST_OUTS = 4
 
 
 def is_house(thing):
@@ -52,13 +53,16 @@ def need_house(thing):
 def are_outs(house, thing):
     """Tell of anything whether it is outs."""
     need_house(house)
-    if not is_tuple(thing, 0, 4) or not all([is_out(out) for out in thing]):
-        return False
-    return all([ahead[1] < behind[0] for ahead, behind in zip(thing, thing[1:])])
+    return is_tuple(thing, 0, MOST_OUTS) and all([is_out(out) for out in thing]) and lie_apart(thing)
 
 
 def is_out(thing):
     return is_tuple(thing, 2, 2) and is_hour(thing[0]) and is_hour(thing[1]) and thing[0] < thing[1]
+
+
+def lie_apart(outs):
+    """Tell whether each out begins behind the end of the one ahead of it."""
+    return all([ahead[1] < behind[0] for ahead, behind in zip(outs, outs[1:])])
 
 
 def need_outs(house, thing):

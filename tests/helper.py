@@ -2,6 +2,8 @@
 
 import random
 
+from rimehold.errors import NoNumber
+
 FAR = 10 ** 40 - 1
 
 # Four rooms of unlike colds, three kinds; kinds 0 and 1 may not share a room, nor may 1 and 2.
@@ -25,6 +27,29 @@ def anything():
         nested(60, lambda thing: {"a": thing}), nested(60, lambda thing: (thing, thing) if thing == 1 else (thing, 0)),
         [0] * 10000, (0,) * 10000, ((0, 1),) * 3000, [(0, "out", 0)] * 3000, {key: key for key in range(5000)},
     ]
+
+
+def no_numbers():
+    """Things of every kind that are no whole numbers."""
+    return [(), [], *[thing for thing in anything() if isinstance(thing, bool) or not isinstance(thing, int)]]
+
+
+def wrong_ways(rights, errors):
+    """(given, error) with each place of errors wrong, by things of every kind: alone, and with all behind it."""
+    for thing in anything():
+        for place, error in errors.items():
+            if error is not NoNumber or thing in no_numbers():
+                yield rights[:place] + [thing] + rights[place + 1:], error
+                yield rights[:place] + [thing] * (len(rights) - place), error
+
+
+def hold_just(case, told, many, thing):
+    """A thing shows so many, and what is less, and no more."""
+    with case.subTest(thing=thing):
+        for less in (many, many - 1, min(many, 0), min(many, -1), -FAR):
+            case.assertIs(told(less, thing), True)
+        for more in (many + 1, FAR):
+            case.assertIs(told(more, thing), False)
 
 
 def reading(house, pages):

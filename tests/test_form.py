@@ -17,6 +17,7 @@ METHODS = set("""append clear copy count endswith extend find get index insert i
     setdefault sort split splitlines startswith strip update upper values zfill bit_length add discard""".split())
 WORDS = """type typing typing_extensions enum Enum IntEnum StrEnum Flag IntFlag Generic Protocol ABC ABCMeta namedtuple
     NamedTuple TypedDict TYPE_CHECKING abstractmethod""".split()
+WALKED = ("zip", "enumerate", "reversed", "range", "items", "keys", "values")
 PARTS_OF_WORDS = ("dataclass", "overload", "contextmanager")
 NODES = (ast.With, ast.Match, ast.Global, ast.Nonlocal, ast.Yield, ast.YieldFrom, ast.AsyncFunctionDef, ast.Await,
          ast.GeneratorExp, ast.NamedExpr, ast.Div, ast.Import, ast.AnnAssign)
@@ -93,3 +94,45 @@ class Form(unittest.TestCase):
                     for sign, right in zip(node.ops, node.comparators):
                         if isinstance(sign, (ast.Is, ast.IsNot)):
                             self.assertIsInstance(right, ast.Constant)
+
+    def test_what_is_walked_is_not_kept(self):
+        for path, text, tree in self.each():
+            for node in ast.walk(tree):
+                if isinstance(node, (ast.Assign, ast.Return)) and isinstance(node.value, ast.Call):
+                    called = node.value.func
+                    self.assertNotIn(getattr(called, "id", getattr(called, "attr", None)), WALKED, node.lineno)
+
+    def test_sets_stand_where_they_may(self):
+        for path, text, tree in self.each():
+            allowed = []
+            for node in ast.walk(tree):
+                if isinstance(node, ast.Call) and getattr(node.func, "id", None) in ("len", "sorted"):
+                    allowed.extend(node.args)
+            for node in ast.walk(tree):
+                called = isinstance(node, ast.Call) and getattr(node.func, "id", None) in ("set", "frozenset")
+                if called or isinstance(node, (ast.Set, ast.SetComp)):
+                    self.assertIn(node, allowed, node.lineno)
+
+    def test_no_name_is_a_method_and_a_value(self):
+        methods, values = set(), set()
+        for path, text, tree in self.each():
+            for node in ast.walk(tree):
+                if isinstance(node, ast.ClassDef):
+                    methods |= {row.name for row in node.body if isinstance(row, ast.FunctionDef)}
+                if isinstance(node, ast.Attribute) and isinstance(node.ctx, ast.Store):
+                    values.add(node.attr)
+        self.assertTrue(methods and values)
+        self.assertEqual(methods & values, set())
+        for name in methods - {"__init__"} | values:
+            self.assertFalse(any(hasattr(kind, name) for kind in (str, int, list, dict, set, bytes)), name)
+
+    def test_no_two_files_draw_from_one_another(self):
+        drawn = {}
+        for path, text, tree in self.each():
+            drawn[path.stem] = {node.module.split(".")[1] for node in tree.body if isinstance(node, ast.ImportFrom)}
+        self.assertEqual(drawn["__init__"], set())
+        while drawn:
+            free = [name for name in drawn if not drawn[name] & set(drawn)]
+            self.assertTrue(free, drawn)
+            for name in free:
+                del drawn[name]
